@@ -1,4 +1,4 @@
-"""The rules of ../shared/LANGUAGE.md that can be read off the files, as far as the package uses them."""
+"""Some of the rules of ../shared/LANGUAGE.md: forms, names, imports, signs and sizes. The others are kept by eye."""
 
 import ast
 import builtins
