@@ -1,6 +1,6 @@
-"""What bases, fractions and writings there are; the others are refused."""
+"""What bases, fractions, writings and numbers there are; the others are refused."""
 
-from ringfigures.errors import NoBase, NoFraction, NoWriting
+from ringfigures.errors import NoBase, NoFraction, NoNumber, NoWriting
 
 LEAST_BASE = 2
 GREATEST_BASE = 36
@@ -8,6 +8,7 @@ GREATEST_TOP = 1000000000000
 GREATEST_BOTTOM = 2000
 GREATEST_WHOLE = 1000000000000
 MOST_FIGURES = 4000
+GREATEST_NUMBER = 1000000
 
 
 # The refusals' words hold no number: Python itself refuses to write out a very long one.
@@ -21,6 +22,10 @@ def check_base(base):
 def check_fraction(top, bottom):
     if top < 0 or top > GREATEST_TOP:
         raise NoFraction("the top of a fraction is from 0 to 10 ** 12")
+    check_bottom(bottom)
+
+
+def check_bottom(bottom):
     if bottom < 1 or bottom > GREATEST_BOTTOM:
         raise NoFraction("the bottom of a fraction is from 1 to 2000")
 
@@ -38,3 +43,8 @@ def check_writing(base, writing):
         raise NoWriting("the whole number of a writing is from 0 to 10 ** 12")
     check_figures(base, writing[1])
     check_figures(base, writing[2])
+
+
+def check_number(number):
+    if number < 0 or number > GREATEST_NUMBER:
+        raise NoNumber("a writing is taken from 0 to 10 ** 6 times")

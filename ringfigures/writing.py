@@ -6,6 +6,10 @@ from ringfigures.checks import check_base, check_fraction, check_writing
 def written(base, top, bottom):
     check_base(base)
     check_fraction(top, bottom)
+    return divided_out(base, top, bottom)
+
+
+def divided_out(base, top, bottom):
     figures = []
     place_of_rest = {}
     rest = top % bottom

@@ -1,9 +1,11 @@
-"""What the tests hold the program against: worths by fractions, plainness by the document's words."""
+"""What the tests hold the program against: worths by fractions, the rest by the document's words."""
 
 from fractions import Fraction
 from itertools import product
+from math import gcd
 
 LIMIT = 10 ** 12
+SIGNS = "0123456789abcdefghijklmnopqrstuvwxyz"
 
 
 def number(base, figures):
@@ -28,6 +30,44 @@ def plain_by_words(base, writing):
         if ring == ring[:len(ring) // times] * times:
             return False
     return not (ahead and ahead[-1] == ring[-1])
+
+
+def lengths_by_words(base, bottom):
+    ahead = 0
+    while gcd(bottom // gcd(bottom, base ** ahead), base) != 1:
+        ahead += 1
+    left = bottom // gcd(bottom, base ** ahead)
+    if left == 1:
+        return ahead, 0
+    ring = 1
+    while pow(base, ring, left) != 1:
+        ring += 1
+    return ahead, ring
+
+
+def figure_by_division(base, top, bottom, place):
+    return top % bottom * pow(base, place, bottom) % bottom * base // bottom
+
+
+def tops_in_lowest_terms(bottom):
+    return [top for top in range(bottom) if gcd(top, bottom) == 1]
+
+
+def primes(most):
+    return [n for n in range(2, most + 1) if all(n % k for k in range(2, int(n ** 0.5) + 1))]
+
+
+def note_by_words(base, writing):
+    whole, ahead, ring = writing
+    text = ""
+    while whole or not text:
+        text = SIGNS[whole % base] + text
+        whole //= base
+    if ahead or ring:
+        text += "." + "".join(SIGNS[figure] for figure in ahead)
+    if ring:
+        text += "(" + "".join(SIGNS[figure] for figure in ring) + ")"
+    return text
 
 
 def spread_figures(base, count, seed):

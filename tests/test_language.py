@@ -104,6 +104,32 @@ class LanguageTest(unittest.TestCase):
             for alias in node.names:
                 self.assertIn(alias.name, set(bound_names(source)), path)
 
+    def test_no_two_files_draw_from_one_another(self):
+        draws = {path.stem: [] for path in FILES}
+        for path, node in self.nodes(ast.ImportFrom):
+            draws[path.stem].append(node.module.split(".")[1])
+        self.assertEqual(draws["__init__"], [])
+        while draws:
+            free = [name for name in draws if not any(other in draws for other in draws[name])]
+            self.assertNotEqual(free, [], draws)
+            for name in free:
+                draws.pop(name)
+
+    def test_locals_are_not_called_like_an_import_or_a_class(self):
+        for path, tree in self.trees.items():
+            taken = {alias.name for node in tree.body if isinstance(node, ast.ImportFrom) for alias in node.names}
+            taken |= {node.name for node in tree.body if isinstance(node, ast.ClassDef)}
+            for node in tree.body:
+                if isinstance(node, ast.FunctionDef):
+                    self.assertEqual(taken & set(bound_names(node)), set(), (path, node.name))
+
+    def test_names_at_the_top_are_bound_once(self):
+        for path, tree in self.trees.items():
+            names = [node.name for node in tree.body if isinstance(node, (ast.FunctionDef, ast.ClassDef))]
+            names += [node.targets[0].id for node in tree.body if isinstance(node, ast.Assign)]
+            names += [alias.name for node in tree.body if isinstance(node, ast.ImportFrom) for alias in node.names]
+            self.assertEqual(sorted(names), sorted(set(names)), path)
+
     def test_names(self):
         for path, tree in self.trees.items():
             for name in bound_names(tree):
